@@ -4,24 +4,9 @@ import (
 	"slices"
 	"strings"
 	"testing"
-)
 
-// texts returns every text of at most most pieces.
-func texts(most int, pieces ...string) []string {
-	out := []string{""}
-	last := out
-	for range most {
-		var longer []string
-		for _, s := range last {
-			for _, p := range pieces {
-				longer = append(longer, s+p)
-			}
-		}
-		out = append(out, longer...)
-		last = longer
-	}
-	return out
-}
+	"seine/every"
+)
 
 // linesOf says what Lines must answer, by the library's Split.
 func linesOf(s string) []string {
@@ -98,7 +83,7 @@ func TestLines(t *testing.T) {
 
 // P2.1: every short text; there is one more line than there are ends.
 func TestLinesOfEveryText(t *testing.T) {
-	for _, s := range texts(8, "\n", "\r", "a", " ") {
+	for s := range every.Text(8, "\n", "\r", "a", " ") {
 		got := Lines(s)
 		if want := linesOf(s); !slices.Equal(got, want) {
 			t.Fatalf("Lines(%q) = %q, want %q", s, got, want)
@@ -176,7 +161,7 @@ func TestIndent(t *testing.T) {
 
 // P2.2: every list of up to four short lines.
 func TestIndentOfEveryList(t *testing.T) {
-	lines := texts(2, " ", "\t", "a")
+	lines := slices.Collect(every.Text(2, " ", "\t", "a"))
 	var grow func(l []string)
 	grow = func(l []string) {
 		if got, want := Indent(l...), indentOf(l); got != want {
@@ -255,12 +240,12 @@ func TestValue(t *testing.T) {
 
 // P2.3: every short text.
 func TestValueOfEveryText(t *testing.T) {
-	for _, raw := range texts(8, "\n", " ", "\t", "a") {
+	for raw := range every.Text(8, "\n", " ", "\t", "a") {
 		if got, want := Value(raw), valueOf(raw); got != want {
 			t.Fatalf("Value(%q) = %q, want %q", raw, got, want)
 		}
 	}
-	for _, raw := range texts(5, "\n", "\r", "\r\n", " ", "  a", "\tb ", "c") {
+	for raw := range every.Text(5, "\n", "\r", "\r\n", " ", "  a", "\tb ", "c") {
 		if got, want := Value(raw), valueOf(raw); got != want {
 			t.Fatalf("Value(%q) = %q, want %q", raw, got, want)
 		}
@@ -298,7 +283,7 @@ func TestValueOfLongTexts(t *testing.T) {
 
 // P2.4: no byte 13, and a line that is not bare at both ends.
 func TestValueHasNoBareEnds(t *testing.T) {
-	for _, raw := range texts(6, "\n", "\r", " ", "\t", "a", "\x00") {
+	for raw := range every.Text(6, "\n", "\r", " ", "\t", "a", "\x00") {
 		got := Value(raw)
 		if strings.Contains(got, "\r") {
 			t.Fatalf("Value(%q) = %q has a byte 13", raw, got)

@@ -6,6 +6,8 @@ import (
 	"testing"
 	"unicode/utf16"
 	"unicode/utf8"
+
+	"seine/every"
 )
 
 // decode says what Code must answer, by the library's decoder.
@@ -28,20 +30,6 @@ func sameCode(t *testing.T, s string, i int) {
 	}
 }
 
-// words calls f with every sequence of at most most elements of l.
-func words[T any](l []T, most int, f func([]T)) {
-	var grow func(w []T)
-	grow = func(w []T) {
-		f(w)
-		if len(w) < most {
-			for _, x := range l {
-				grow(append(slices.Clip(w), x))
-			}
-		}
-	}
-	grow(nil)
-}
-
 // P1.1: each code point has one encoding.
 func TestCodeOfEveryCodePoint(t *testing.T) {
 	for c := range 0x110000 {
@@ -58,8 +46,12 @@ func TestCodeOfEveryCodePoint(t *testing.T) {
 // P1.1: at the edges of each byte of an encoding, whole, cut short and followed.
 func TestCodeOfEdgeBytes(t *testing.T) {
 	edges := []byte{0, 'a', 0x7f, 0x80, 0x8f, 0x90, 0x9f, 0xa0, 0xbf, 0xc0, 0xc1, 0xc2, 0xdf, 0xe0, 0xe1, 0xec, 0xed, 0xee, 0xef, 0xf0, 0xf1, 0xf3, 0xf4, 0xf5, 0xf7, 0xf8, 0xfc, 0xfe, 0xff}
-	words(edges, 4, func(w []byte) { sameCode(t, string(w), 0) })
-	words(edges, 2, func(w []byte) { sameCode(t, "\xf4\x8f"+string(w)+"\xbf", 0) })
+	for w := range every.List(4, edges...) {
+		sameCode(t, string(w), 0)
+	}
+	for w := range every.List(2, edges...) {
+		sameCode(t, "\xf4\x8f"+string(w)+"\xbf", 0)
+	}
 }
 
 // P1.1: every pair of bytes, ahead of others.
@@ -87,12 +79,11 @@ func TestCodeAtEveryPlace(t *testing.T) {
 // P1.1: Good holds for encoded code points, and for nothing else.
 func TestGood(t *testing.T) {
 	edges := []string{"a", "\x00", "ä", "€", "😀", "\U0010ffff", "\xff", "\x80", "\xe2\x82", "\xed\xa0\x80", "\xc0\x80", "\xf4\x90\x80\x80"}
-	words(edges, 3, func(w []string) {
-		s := strings.Join(w, "")
+	for s := range every.Text(3, edges...) {
 		if got := Good(s); got != utf8.ValidString(s) {
 			t.Errorf("Good(%q) = %v", s, got)
 		}
-	})
+	}
 }
 
 // P1.1: Source takes each code point by itself, wherever it stands.
@@ -153,7 +144,7 @@ func joined(units []int) (string, bool) {
 
 // P1.2: units alone, in pairs, and out of their order.
 func TestJoin(t *testing.T) {
-	words(edgeUnits, 4, func(w []int) {
+	for w := range every.List(4, edgeUnits...) {
 		want, wantOk := joined(w)
 		if !wantOk {
 			want = ""
@@ -161,7 +152,7 @@ func TestJoin(t *testing.T) {
 		if got, ok := Join(w...); got != want || ok != wantOk {
 			t.Errorf("Join(%v) = %q, %v, want %q, %v", w, got, ok, want, wantOk)
 		}
-	})
+	}
 }
 
 // P1.2: every unit by itself.
@@ -235,13 +226,13 @@ func TestJoinOfUnits(t *testing.T) {
 
 // P1.3: Units takes back every Join.
 func TestUnitsOfJoin(t *testing.T) {
-	words(edgeUnits, 4, func(w []int) {
+	for w := range every.List(4, edgeUnits...) {
 		s, ok := Join(w...)
 		if !ok {
-			return
+			continue
 		}
 		if back, good := Units(s); !good || !slices.Equal(back, w) {
 			t.Errorf("Join(%v) = %q; Units of it = %v, %v", w, s, back, good)
 		}
-	})
+	}
 }

@@ -12,6 +12,7 @@ import (
 
 	"seine/api"
 	"seine/block"
+	"seine/every"
 )
 
 func tok(kind int, s string) api.Token { return api.Token{Kind: kind, S: s} }
@@ -23,23 +24,6 @@ func show(l ...api.Token) string {
 		out += strconv.Itoa(x.Kind) + strconv.Quote(x.S) + " "
 	}
 	return "[" + out + "]"
-}
-
-// texts yields every text of at most most pieces.
-func texts(most int, pieces ...string) func(yield func(string) bool) {
-	var grow func(s string, more int, yield func(string) bool) bool
-	grow = func(s string, more int, yield func(string) bool) bool {
-		if !yield(s) {
-			return false
-		}
-		for k := 0; more > 0 && k < len(pieces); k++ {
-			if !grow(s+pieces[k], more-1, yield) {
-				return false
-			}
-		}
-		return true
-	}
-	return func(yield func(string) bool) { grow("", most, yield) }
 }
 
 var (
@@ -184,7 +168,7 @@ func TestEveryByte(t *testing.T) {
 
 // P3.1: every short text of marks, words and gaps.
 func TestEveryTextOfWords(t *testing.T) {
-	for s := range texts(5, ".", "...", "$", "}", "a", "_Z", "9", ",", "\r", "#", "\ufeff") {
+	for s := range every.Text(5, ".", "...", "$", "}", "a", "_Z", "9", ",", "\r", "#", "\ufeff") {
 		sameRead(t, s)
 	}
 }
@@ -214,7 +198,7 @@ func TestNumbers(t *testing.T) {
 
 // P3.1: every short text of what numbers are made of, for Read and for Number.
 func TestEveryNumber(t *testing.T) {
-	for s := range texts(6, "0", "1", "-", "+", ".", "e", "E", "a", " ") {
+	for s := range every.Text(6, "0", "1", "-", "+", ".", "e", "E", "a", " ") {
 		sameRead(t, s)
 		l, e := readOf(s)
 		want := 0
@@ -296,7 +280,7 @@ func TestEveryUnit(t *testing.T) {
 			t.Fatalf("unit %s is %s, %d and %s, %d", text, show(lower...), e, show(upper...), upperE)
 		}
 	}
-	for s := range texts(4, hex(0), hex(0x41), hex(0xd7ff), hex(0xd800), hex(0xdbff), hex(0xdc00), hex(0xdfff), hex(0xe000), `\\`, "u", " ") {
+	for s := range every.Text(4, hex(0), hex(0x41), hex(0xd7ff), hex(0xd800), hex(0xdbff), hex(0xdc00), hex(0xdfff), hex(0xe000), `\\`, "u", " ") {
 		sameRead(t, `"`+s+`"`)
 	}
 }
@@ -331,11 +315,11 @@ func TestEndsOfBlockQuotes(t *testing.T) {
 
 // P3.1: every short text of what Quotes are made of.
 func TestEveryQuote(t *testing.T) {
-	for s := range texts(7, `"`, `""`, `\`, "a", "\n") {
+	for s := range every.Text(7, `"`, `""`, `\`, "a", "\n") {
 		sameRead(t, s)
 		sameRead(t, `"""`+s)
 	}
-	for s := range texts(6, `"`, `"""`, `\`, "n", "u0041", "#") {
+	for s := range every.Text(6, `"`, `"""`, `\`, "n", "u0041", "#") {
 		sameRead(t, `"`+s)
 	}
 }
@@ -444,7 +428,7 @@ func TestRight(t *testing.T) {
 
 // P3.3: of every short text of each kind, those are Right that stand somewhere as tokens.
 func TestRightOfEveryText(t *testing.T) {
-	for s := range texts(4, ".", "{", "$", "a", "_", "0", "1", "-", "e", `"`, " ", "é", "\xff") {
+	for s := range every.Text(4, ".", "{", "$", "a", "_", "0", "1", "-", "e", `"`, " ", "é", "\xff") {
 		l, e := readOf(s)
 		for _, kind := range []int{api.Punct, api.Word, api.Digits, api.Point} {
 			x := tok(kind, s)
@@ -551,7 +535,7 @@ func TestReadOfPrint(t *testing.T) {
 
 // P3.4: what Read returns is Right, and is read again from its print; up to MaxText bytes.
 func TestPrintOfRead(t *testing.T) {
-	for s := range texts(4, `"`, `"""`, `\"""`, `\u0041`, `\ud83d\ude00`, "{", "...", "a", "1", ".5", "-", " ", "\n", "é") {
+	for s := range every.Text(4, `"`, `"""`, `\"""`, `\u0041`, `\ud83d\ude00`, "{", "...", "a", "1", ".5", "-", " ", "\n", "é") {
 		l, e := Read(s)
 		if e != api.OK {
 			continue
