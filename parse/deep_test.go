@@ -70,7 +70,7 @@ func TestDeepSelectionsOfAllKinds(t *testing.T) {
 			for _, head := range heads() {
 				s := head + "{" + nested(n, "x", l...) + "}"
 				tokens, _ := token.Read(s)
-				refusesOrReads(t, judged("document", tokens), s)
+				refusesOrReads(t, rules.Judge("document", tokens), s)
 			}
 		}
 	}

@@ -7,18 +7,17 @@ import (
 	"testing"
 
 	"seine/api"
+	"seine/grammar"
 	"seine/token"
 	"seine/value"
 	"seine/wrap"
 )
 
-// grammar is the chapter's: a symbol's ways, what is not in it is a token. A word
-// behind a `'` is that very Word, `other` one that is not `on`; the brackets of
-// types are `<` and `>`.
-var grammar = map[string][]string{
+// ways are those of the chapter's grammar.
+var ways = map[string][]string{
 	"document":    {"definition definition*"},
 	"definition*": {"", "definition definition*"},
-	"definition":  {"selections", "kind name? variables? fixedDirs selections", "'fragment other 'on name fixedDirs selections"},
+	"definition":  {"selections", "kind name? variables? fixedDirs selections", "'fragment name-on 'on name fixedDirs selections"},
 	"kind":        {"'query", "'mutation"},
 	"name?":       {"", "name"},
 	"variables?":  {"", "( variable variable* )"},
@@ -28,7 +27,7 @@ var grammar = map[string][]string{
 	"selections":  {"{ selection selection* }"},
 	"selections?": {"", "selections"},
 	"selection*":  {"", "selection selection*"},
-	"selection":   {"name args? dirs selections?", "name : name args? dirs selections?", "... other dirs", "... dirs selections", "... 'on name dirs selections"},
+	"selection":   {"name args? dirs selections?", "name : name args? dirs selections?", "... name-on dirs", "... dirs selections", "... 'on name dirs selections"},
 	"args?":       {"", "( arg arg* )"},
 	"arg*":        {"", "arg arg*"},
 	"arg":         {"name : value"},
@@ -46,99 +45,8 @@ var grammar = map[string][]string{
 	"must?":       {"", "!"},
 }
 
-// A place is where one is in a text: the symbols that may follow, in each of the
-// ways that are open, and how many brackets are.
-type place struct {
-	ways        []string
-	deep, lists int
-}
-
-// known keeps what opened has found, since the same ways come again and again.
-var known = map[string][]string{}
-
-// opened replaces the first symbol of a way till it is a token, by each of its ways.
-func opened(way string) []string {
-	if l, is := known[way]; is {
-		return l
-	}
-	first, rest, _ := strings.Cut(way, " ")
-	choices, is := grammar[first]
-	if !is {
-		return []string{way}
-	}
-	var out []string
-	for _, c := range choices {
-		out = append(out, opened(strings.TrimSpace(c+" "+rest))...)
-	}
-	slices.Sort(out)
-	known[way] = slices.Compact(out)
-	return known[way]
-}
-
-// fits reports whether the token of a grammar is t.
-func fits(symbol string, t api.Token) bool {
-	switch t.Kind {
-	case api.Word:
-		return symbol == "name" || symbol == "'"+t.S || symbol == "other" && t.S != "on"
-	case api.Digits, api.Point:
-		return symbol == "number"
-	case api.Quote:
-		return symbol == "quote"
-	}
-	return symbol == t.S || symbol == "<" && t.S == "[" || symbol == ">" && t.S == "]"
-}
-
-// next returns the place behind t, or the error that t is.
-func (p place) next(t api.Token) (place, api.Errno) {
-	var ways []string
-	symbol := ""
-	for _, way := range p.ways {
-		if first, rest, _ := strings.Cut(way, " "); fits(first, t) {
-			ways = append(ways, opened(rest)...)
-			symbol = first
-		}
-	}
-	if len(ways) == 0 {
-		return place{}, api.ErrForm
-	}
-	slices.Sort(ways)
-	out := place{slices.Compact(ways), p.deep, p.lists}
-	switch symbol {
-	case "{", "[":
-		out.deep++
-	case "}", "]":
-		out.deep--
-	case "<":
-		out.lists++
-	case ">":
-		out.lists--
-	}
-	if out.deep > 16 || out.lists > 4 {
-		return place{}, api.ErrDeep
-	}
-	return out, api.OK
-}
-
-// judged says which error the tokens of a text must have.
-func judged(start string, l []api.Token) api.Errno {
-	p := place{ways: opened(start)}
-	for _, t := range l {
-		next, e := p.next(t)
-		if e != api.OK {
-			return e
-		}
-		p = next
-	}
-	return p.end()
-}
-
-// end says which error a text must have that ends here.
-func (p place) end() api.Errno {
-	if slices.Contains(p.ways, "") {
-		return api.OK
-	}
-	return api.ErrForm
-}
+// rules is the chapter's grammar.
+var rules = grammar.New(ways)
 
 func mark(s string) api.Token { return api.Token{Kind: api.Punct, S: s} }
 
@@ -332,24 +240,6 @@ func tails() [][]api.Token {
 	return [][]api.Token{slices.Repeat([]api.Token{mark("[")}, 20), slices.Repeat([]api.Token{mark("{"), word("a")}, 20)}
 }
 
-// explore goes through every text that begins with l, has so many tokens more and
-// could go on till the last one of them.
-func (s start) explore(t *testing.T, p place, l []api.Token, more int) {
-	s.holds(t, l, p.end())
-	for _, x := range pieces() {
-		longer := append(slices.Clip(l), x)
-		next, e := p.next(x)
-		if e == api.OK && more > 0 {
-			s.explore(t, next, longer, more-1)
-		}
-		for _, tail := range tails() {
-			if e != api.OK {
-				s.holds(t, append(slices.Clip(longer), tail...), e)
-			}
-		}
-	}
-}
-
 // P6.1 and P6.2: every short text that goes on from some beginnings, held against the grammar.
 func TestEveryShortText(t *testing.T) {
 	for _, x := range []struct {
@@ -362,15 +252,15 @@ func TestEveryShortText(t *testing.T) {
 		{1, "", 3}, {1, "[7", 2}, {1, "{a:", 3}, {1, "{a:[", 2}, {2, "", 3}, {2, "[7", 2}, {2, "{a:", 3}, {2, "{a:[", 2}, {3, "", 5}, {3, "[[", 3}, {3, "[a]!", 3},
 	} {
 		s := starts()[x.start]
-		l, _ := token.Read(x.begins)
-		p := place{ways: opened(s.symbol)}
-		for _, v := range l {
-			p, _ = p.next(v)
+		begin, _ := token.Read(x.begins)
+		count := 0
+		for l, e := range rules.Texts(s.symbol, begin, x.more, pieces(), tails()...) {
+			s.holds(t, l, e)
+			count++
 		}
-		if len(p.ways) == 0 {
-			t.Fatalf("nothing begins with %s", x.begins)
+		if count < 20 {
+			t.Errorf("%d texts begin with %s", count, x.begins)
 		}
-		s.explore(t, p, l, x.more)
 	}
 }
 
@@ -392,30 +282,13 @@ func samples() map[string][]string {
 // P6.1 and P6.2: samples with each token left out, replaced, doubled or swapped, and with one more; and cut off.
 func TestChangedSamples(t *testing.T) {
 	for _, s := range starts() {
-		check := func(parts ...[]api.Token) {
-			t.Helper()
-			l := slices.Concat(parts...)
-			s.holds(t, l, judged(s.symbol, l))
-		}
 		for _, text := range samples()[s.symbol] {
 			l, _ := token.Read(text)
-			if e := judged(s.symbol, l); e != api.OK {
+			if e := rules.Judge(s.symbol, l); e != api.OK {
 				t.Fatalf("%s has the error %d", text, e)
 			}
-			check(l)
-			check(l, l)
-			for k := range l {
-				check(l[:k])
-				check(l[:k], l[k+1:])
-				check(l[:k], l[k:k+1], l[k:])
-				check(l[:k], l[k+1:min(k+2, len(l))], l[k:k+1], l[min(k+2, len(l)):])
-				for _, x := range pieces() {
-					check(l[:k], []api.Token{x}, l[k:])
-					check(l[:k], []api.Token{x}, l[k+1:])
-				}
-			}
-			for _, x := range pieces() {
-				check(l, []api.Token{x})
+			for changed := range grammar.Changed(l, pieces()) {
+				s.holds(t, changed, rules.Judge(s.symbol, changed))
 			}
 		}
 	}

@@ -83,20 +83,3 @@ func TestAnswersAreNewMemory(t *testing.T) {
 		}
 	}
 }
-
-// Only a refusal becomes an error: whatever else a function panics with goes on.
-func TestOtherPanics(t *testing.T) {
-	for _, x := range []any{"other", api.ErrForm, struct{ e api.Errno }{api.ErrForm}} {
-		func() {
-			defer func() {
-				if got := recover(); got != x {
-					t.Errorf("a panic with %v became %v", x, got)
-				}
-			}()
-			whole("a", func(r *reader) api.Type { panic(x) })
-		}()
-	}
-	if got, e := whole("a", func(r *reader) api.Type { panic(refusal{api.ErrRange}) }); got != (api.Type{}) || e != api.ErrRange {
-		t.Errorf("a refusal became %v, %d", got, e)
-	}
-}

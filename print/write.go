@@ -2,8 +2,7 @@ package print
 
 import (
 	"seine/api"
-	"seine/value"
-	"seine/wrap"
+	"seine/syntax"
 )
 
 // The words with which definitions begin.
@@ -13,71 +12,64 @@ const (
 	fragmentWord = "fragment"
 )
 
-// writeOperation appends the tokens of op. What is written, here and below, is
-// Right.
-func writeOperation(out []api.Token, op api.Op) []api.Token {
+// writeDocument writes d. What is written, here and below, is Right.
+func writeDocument(w *syntax.Writer, d api.Doc) {
+	for _, op := range d.Ops {
+		writeOperation(w, op)
+	}
+	for _, f := range d.Frags {
+		writeFragment(w, f)
+	}
+}
+
+func writeOperation(w *syntax.Writer, op api.Op) {
 	if op.Kind == api.Mutation {
-		out = append(out, word(mutationWord))
+		w.Words(mutationWord)
 	} else {
-		out = append(out, word(queryWord))
+		w.Words(queryWord)
 	}
 	if op.Name != "" {
-		out = append(out, word(op.Name))
+		w.Words(op.Name)
 	}
-	out = writeVariables(out, op.Vars)
-	out = writeDirectives(out, op.Dirs)
-	return writeBody(out, op.Sels)
+	writeVariables(w, op.Vars)
+	w.Directives(op.Dirs)
+	writeBody(w, op.Sels)
 }
 
-func writeFragment(out []api.Token, f api.Frag) []api.Token {
-	out = append(out, word(fragmentWord), word(f.Name), word(onWord), word(f.On))
-	out = writeDirectives(out, f.Dirs)
-	return writeBody(out, f.Sels)
+func writeFragment(w *syntax.Writer, f api.Frag) {
+	w.Words(fragmentWord, f.Name, onWord, f.On)
+	w.Directives(f.Dirs)
+	writeBody(w, f.Sels)
 }
 
-func writeVariables(out []api.Token, l []api.VarDef) []api.Token {
+func writeVariables(w *syntax.Writer, l []api.VarDef) {
 	if len(l) == 0 {
-		return out
+		return
 	}
-	out = append(out, punct("("))
+	w.Punct("(")
 	for _, v := range l {
-		out = append(out, punct("$"), word(v.Name), punct(":"))
-		out = writeType(out, v.T)
-		if v.Has {
-			out = writeValue(append(out, punct("=")), v.Default)
-		}
+		w.Punct("$")
+		w.Param(api.Param(v))
 	}
-	return append(out, punct(")"))
+	w.Punct(")")
 }
 
-func writeType(out []api.Token, t api.Type) []api.Token {
-	if item, is := wrap.Item(t); is {
-		out = writeType(append(out, punct("[")), item)
-		out = append(out, punct("]"))
-	} else {
-		out = append(out, word(t.Name))
-	}
-	if wrap.Is(t) {
-		out = append(out, punct("!"))
-	}
-	return out
+// writeBody writes selections with the brackets around them.
+func writeBody(w *syntax.Writer, l []api.Sel) {
+	w.Punct("{")
+	writeSelections(w, l)
+	w.Punct("}")
 }
 
-// writeBody appends the tokens of selections with the brackets around them.
-func writeBody(out []api.Token, l []api.Sel) []api.Token {
-	out = writeSelections(append(out, punct("{")), l)
-	return append(out, punct("}"))
-}
-
-func writeSelections(out []api.Token, l []api.Sel) []api.Token {
+func writeSelections(w *syntax.Writer, l []api.Sel) {
 	open := [][]api.Sel{l} // what is left of the lists within one another, the innermost one last
 lists:
 	for len(open) > 0 {
 		in := len(open) - 1
 		for k, x := range open[in] {
-			out = writeHead(out, x)
+			writeHead(w, x)
 			if len(x.Sels) > 0 {
-				out = append(out, punct("{"))
+				w.Punct("{")
 				open[in] = open[in][k+1:]
 				open = append(open, x.Sels)
 				continue lists
@@ -85,54 +77,26 @@ lists:
 		}
 		open = open[:in]
 		if in > 0 {
-			out = append(out, punct("}"))
+			w.Punct("}")
 		}
 	}
-	return out
 }
 
-// writeHead appends the tokens of a selection, up to what is within it.
-func writeHead(out []api.Token, x api.Sel) []api.Token {
+// writeHead writes a selection, up to what is within it.
+func writeHead(w *syntax.Writer, x api.Sel) {
 	if x.Kind != api.Field {
-		out = append(out, punct("..."))
+		w.Punct("...")
 	}
 	if x.On != "" {
-		out = append(out, word(onWord), word(x.On))
+		w.Words(onWord, x.On)
 	}
 	if x.Alias != "" {
-		out = append(out, word(x.Alias), punct(":"))
+		w.Words(x.Alias)
+		w.Punct(":")
 	}
 	if x.Name != "" {
-		out = append(out, word(x.Name))
+		w.Words(x.Name)
 	}
-	out = writeArguments(out, x.Args)
-	return writeDirectives(out, x.Dirs)
+	w.Arguments(x.Args)
+	w.Directives(x.Dirs)
 }
-
-func writeDirectives(out []api.Token, l []api.Dir) []api.Token {
-	for _, d := range l {
-		out = append(out, punct("@"), word(d.Name))
-		out = writeArguments(out, d.Args)
-	}
-	return out
-}
-
-func writeArguments(out []api.Token, l []api.Member) []api.Token {
-	if len(l) == 0 {
-		return out
-	}
-	out = append(out, punct("("))
-	for _, m := range l {
-		out = writeValue(append(out, word(m.Name), punct(":")), m.V)
-	}
-	return append(out, punct(")"))
-}
-
-func writeValue(out []api.Token, v api.Value) []api.Token {
-	l, _ := value.Tokens(v)
-	return append(out, l...)
-}
-
-func word(s string) api.Token { return api.Token{Kind: api.Word, S: s} }
-
-func punct(s string) api.Token { return api.Token{Kind: api.Punct, S: s} }
