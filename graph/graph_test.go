@@ -67,6 +67,40 @@ func same(t *testing.T, what any, got, want []string) {
 	}
 }
 
+// walked tells each selection of l and of those within it, by its Kind and Name.
+func walked(l []api.Sel) []string {
+	var out []string
+	for _, x := range l {
+		out = append(append(out, fmt.Sprint(x.Kind, x.Name, x.On, len(x.Sels))), walked(x.Sels)...)
+	}
+	return out
+}
+
+// P13.1: all selections of lists that are three deep, in order, whatever their Kind; as often as they are asked for, and no further than they are.
+func TestEach(t *testing.T) {
+	ends := []api.Sel{field("a"), spread("b"), {Kind: 5, Name: "c"}}
+	for few := range every.List(2, ends...) {
+		few = slices.Clone(few)
+		for l := range every.List(3, field("d", few...), inline("E", few...), spread("f", field("g", few...)), api.Sel{Kind: 5, Sels: few}) {
+			want := walked(l)
+			all := graph.Each(l...)
+			for most := range len(want) + 2 {
+				var got []string
+				for x := range all {
+					got = append(got, walked([]api.Sel{x})[0])
+					if len(got) == most {
+						break
+					}
+				}
+				if most == 0 {
+					most = len(want)
+				}
+				same(t, l, got, want[:min(most, len(want))])
+			}
+		}
+	}
+}
+
 // P13.1: the Spreads of what is written.
 func TestSpreads(t *testing.T) {
 	for text, want := range map[string]string{

@@ -60,7 +60,7 @@ func typesAreComposite(s api.Schema, d api.Doc) bool {
 			return false
 		}
 	}
-	for x := range each(outermost(d)) {
+	for x := range Each(outermost(d)...) {
 		if x.Kind == api.Inline && x.On != "" && !defs.Composite(s, x.On) {
 			return false
 		}
